@@ -1,0 +1,1 @@
+"""Movedwhole: a cluster led to another placing, each piece whole at every moment."""
