@@ -7,13 +7,21 @@ import inspect
 import pathlib
 import unittest
 
-from helper import MovedTest, NO_INTEGERS, NO_TUPLES, THREE, large_worlds, small_worlds
+from helper import (MovedTest, NO_INTEGERS, NO_TUPLES, THREE, large_changes, large_worlds, small_changes, small_worlds,
+                    wrong_pairs)
 from movedwhole.cheapest import fewest_new, fewest_placing
 from movedwhole.clusters import Cluster
 from movedwhole.errors import MoveError
+from movedwhole.evenplans import any_plan, even_plan
+from movedwhole.halves import halved
+from movedwhole.moves import busiest, first_wrong_move, loads, pairs_of
 from movedwhole.placings import first_breach, is_placing, is_wishes, new_copies
+from movedwhole.plans import first_excess, plan_length
 from movedwhole.prices import price_paper, shown_by
 from movedwhole.rooming import lacks_room, lot_lacking, some_placing
+from movedwhole.sources import busy_lot, chosen_moves, least_busiest, lot_value_of
+from movedwhole.tables import table_plan
+from movedwhole.tries import fewest_rounds, inner_bound
 from movedwhole.worldtexts import read_world, write_world
 
 FUNCTIONS = {
@@ -24,6 +32,15 @@ FUNCTIONS = {
                 "some_placing": ["cluster", "wishes"]},
     "cheapest": {"fewest_placing": ["cluster", "wishes", "before"], "fewest_new": ["cluster", "wishes", "before"]},
     "prices": {"shown_by": ["cluster", "wishes", "before", "paper"], "price_paper": ["cluster", "wishes", "before"]},
+    "moves": {"first_wrong_move": ["before", "after", "moves"], "loads": ["many", "pairs"],
+              "busiest": ["rates", "pairs"], "pairs_of": ["moves"]},
+    "sources": {"least_busiest": ["cluster", "before", "after"], "chosen_moves": ["cluster", "before", "after"],
+                "lot_value_of": ["cluster", "before", "after", "lot"], "busy_lot": ["cluster", "before", "after"]},
+    "plans": {"first_excess": ["rates", "pairs", "plan"], "plan_length": ["plan"]},
+    "halves": {"halved": ["many", "pairs"]},
+    "tables": {"table_plan": ["leaving", "entering", "pairs"]},
+    "evenplans": {"even_plan": ["rates", "pairs"], "any_plan": ["rates", "pairs"]},
+    "tries": {"fewest_rounds": ["rates", "pairs"], "inner_bound": ["rates", "pairs", "lot"]},
 }
 METHODS = {
     "clusters": {"Cluster": {"__init__": ["racks", "rooms", "rates"], "__eq__": ["other"],
@@ -61,20 +78,44 @@ class ReadmeTest(unittest.TestCase):
         self.assertEqual(found.failed, 0)
 
 
-def answers(cluster, wishes, before, paper):
-    """What all functions of a world answer; errors by their kinds and attributes."""
+def all_answers(calls):
+    """What the calls (function, arguments) answer; errors by their kinds and attributes."""
     found = []
-    for call, arguments in (
-            (is_wishes, (wishes,)), (is_placing, (cluster, before, 2)), (first_breach, (cluster, wishes, before)),
-            (lot_lacking, (cluster, wishes)), (some_placing, (cluster, wishes)),
-            (lacks_room, (cluster, wishes, paper)), (fewest_placing, (cluster, wishes, before)),
-            (fewest_new, (cluster, wishes, before)), (shown_by, (cluster, wishes, before, paper)),
-            (price_paper, (cluster, wishes, before))):
+    for call, arguments in calls:
         try:
             found.append(call(*arguments))
         except MoveError as error:
             found.append((type(error), vars(error)))
     return found
+
+
+def answers(cluster, wishes, before, paper):
+    """What all functions of a world answer."""
+    return all_answers((
+        (is_wishes, (wishes,)), (is_placing, (cluster, before, 2)), (first_breach, (cluster, wishes, before)),
+        (lot_lacking, (cluster, wishes)), (some_placing, (cluster, wishes)),
+        (lacks_room, (cluster, wishes, paper)), (fewest_placing, (cluster, wishes, before)),
+        (fewest_new, (cluster, wishes, before)), (shown_by, (cluster, wishes, before, paper)),
+        (price_paper, (cluster, wishes, before)),
+    ))
+
+
+def change_answers(cluster, before, after, value):
+    """What all functions of a change answer, with the value as moves and as a lot."""
+    change = (cluster, before, after)
+    return all_answers((
+        (first_wrong_move, (before, after, value)), (least_busiest, change), (chosen_moves, change),
+        (lot_value_of, change + (value,)), (busy_lot, change),
+    ))
+
+
+def pair_answers(rates, pairs, value):
+    """What all functions of pairs answer, with the value as a plan and as a lot."""
+    return all_answers((
+        (loads, (len(rates), pairs)), (busiest, (rates, pairs)), (first_excess, (rates, pairs, value)),
+        (halved, (len(rates), pairs)), (table_plan, (rates, rates[::-1], pairs)), (even_plan, (rates, pairs)),
+        (any_plan, (rates, pairs)), (fewest_rounds, (rates, pairs)), (inner_bound, (rates, pairs, value)),
+    ))
 
 
 class UnchangedTest(MovedTest):
@@ -99,6 +140,27 @@ class UnchangedTest(MovedTest):
             second = answers(alike, tuple(list(wishes)), tuple(list(before)), tuple(list(paper)))
             self.assertEqual(first, second)
             self.assertEqual(alike, cluster)
+
+    def test_no_moves_pairs_plans_and_lots_are_changed(self):
+        for wrong in wrong_pairs(3) + [[[0, 1], [1, 2]], [(0, 1)], [0, [1]]] + list(NO_INTEGERS):
+            kept = copy.deepcopy(wrong)
+            change_answers(THREE, ((0,), (1,)), ((1,), (2,)), wrong)
+            pair_answers((2, 2, 2), wrong, (0, 1))
+            pair_answers((1, 2, 3), ((0, 1), (1, 2)), wrong)
+            self.assertEqual(wrong, kept)
+
+    def test_equal_calls_of_changes_and_pairs_return_equal_results(self):
+        for cluster, before, after in list(small_changes(44, 100)) + list(large_changes(45, 3)):
+            moves = chosen_moves(cluster, before, after)
+            first = change_answers(cluster, before, after, moves)
+            alike = Cluster(list(cluster.racks), list(cluster.rooms), list(cluster.rates))
+            second = change_answers(alike, tuple(list(before)), tuple(list(after)), tuple(list(moves)))
+            self.assertEqual(first, second)
+            pairs = pairs_of(moves)
+            plan = any_plan(cluster.rates, pairs)
+            first = pair_answers(cluster.rates, pairs, plan)
+            self.assertEqual(first, pair_answers(tuple(list(cluster.rates)), tuple(list(pairs)), tuple(list(plan))))
+            self.assertEqual(plan_length(plan), plan_length(tuple(list(plan))))
 
     def test_results_are_plain_and_do_not_change(self):
         for cluster, wishes, before in small_worlds(43, 60):
