@@ -7,7 +7,7 @@ from movedwhole.placings import check_placing, check_wishes, new_copies
 
 def fewest_placing(cluster, wishes, before):
     """Some placing that keeps the rules, with as few new copies from before as can be."""
-    return cheapest_filling(cluster, wishes, before).placing()
+    return cheapest_filling(cluster, wishes, before).placed()
 
 
 def fewest_new(cluster, wishes, before):

@@ -32,7 +32,7 @@ def some_placing(cluster, wishes):
     filling = filled(cluster, wishes, [() for wish in wishes])
     if filling is None:
         raise Undefined("room")
-    return filling.placing()
+    return filling.placed()
 
 
 def falls_short(cluster, wishes, lot):

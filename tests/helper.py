@@ -180,3 +180,91 @@ def has_excess(rates, pairs, plan):
         if any(load_of(store, there) > rate for store, rate in enumerate(rates)):
             return True
     return False
+
+
+def journal_of(cluster, journal):
+    """By the words of point 16: the first wrong line (None if there is none), where pieces stand there, the force."""
+    lots, force, changed = None, None, False
+    if type(journal) is not tuple or not journal:
+        return 0, lots, force
+    for place, line in enumerate(journal):
+        if not journal_line_fits(cluster, lots, force if changed else None, line):
+            return place, lots, force
+        if line[0] == "first":
+            lots, force = [set(lot) for lot in line[1]], line[1]
+        elif line[0] == "change":
+            force, changed = line[1], True
+        elif line[0] == "made":
+            lots[line[1]].add(line[2])
+        else:
+            lots[line[1]] &= set(force[line[1]])
+    return None, tuple(tuple(sorted(lot)) for lot in lots), force
+
+
+def journal_line_fits(cluster, lots, wanted, line):
+    """Whether a line may follow, where the pieces stand at these lots (None: nothing stands yet)."""
+    if type(line) is not tuple or len(line) < 2 or type(line[0]) is not str:
+        return False
+    word, *told = line
+    if lots is None or word == "first":
+        return lots is None and word == "first" and len(told) == 1 and is_placing_by_words(cluster, told[0])
+    due = [piece for piece, lot in enumerate(lots) if wanted and set(wanted[piece]) < lot]
+    if word == "dropped" or due:
+        return word == "dropped" and len(told) == 1 and type(told[0]) is int and due[:1] == told
+    if word == "change":
+        return len(told) == 1 and is_placing_by_words(cluster, told[0]) and len(told[0]) == len(lots)
+    if word != "made" or len(told) != 2 or wanted is None or [type(number) for number in told] != [int, int]:
+        return False
+    return 0 <= told[0] < len(lots) and told[1] in wanted[told[0]] and told[1] not in lots[told[0]]
+
+
+def is_placing_by_words(cluster, value):
+    """Whether the value is a placing of some number of pieces."""
+    lots = all_lots(cluster.store_count)[1:]
+    return type(value) is tuple and all(
+        type(lot) is tuple and all(type(store) is int for store in lot) and lot in lots for lot in value)
+
+
+def random_journal(chance, cluster, pieces, lines):
+    """A right journal of so many lines at most, by chance; often one that ends while a drop is due."""
+    lots = all_lots(cluster.store_count)[1:]
+    journal = [("first", tuple(chance.choice(lots) for piece in range(pieces)))]
+    while len(journal) < lines:
+        _, stands, force = journal_of(cluster, tuple(journal))
+        numbers = [("made", piece, store) for piece in range(pieces) for store in force[piece]]
+        followers = [("change", tuple(chance.choice(lots) for piece in range(pieces)))]
+        followers += [chance.choice(numbers) for _ in range(3) if numbers] + [("dropped", piece) for piece in range(pieces)]
+        right = [line for line in followers if journal_of(cluster, tuple(journal) + (line,))[0] is None]
+        journal.append(chance.choice(right[:1] * (chance.random() < 0.2) or right))
+    return tuple(journal)
+
+
+def some_world(chance, stores, pieces, rates=(1, 1, 2, 3)):
+    """A world (cluster, wishes, before) with room enough, by chance."""
+    racks = tuple(chance.randrange(stores) for store in range(stores))
+    wishes = tuple(chance.randint(1, min(3, len(set(racks)))) for piece in range(pieces))
+    lots = all_lots(stores)[1:]
+    before = tuple(chance.choice(lots) for piece in range(pieces))
+    rooms = [chance.choice((1, 2, pieces, pieces)) for store in range(stores)]
+    cluster = Cluster(racks, rooms, some_rates(chance, stores, rates))
+    if next(all_good_placings(cluster, wishes), None) is None:
+        cluster = Cluster(racks, (pieces,) * stores, cluster.rates)
+    return cluster, wishes, before
+
+
+def tight_worlds(seed, many):
+    """Worlds (cluster, wishes, before) with hardly room but at one store, where new copies are apt to come at once."""
+    chance = random.Random(seed)
+    for _ in range(many):
+        stores = chance.choice((4, 5))
+        racks = [chance.randrange(4) for store in range(stores)]
+        wishes = [chance.randint(1, min(3, len(set(racks)))) for piece in range(chance.randint(2, 4))]
+        emptied, roomy = chance.sample(range(stores), 2)
+        before = []
+        for wish in wishes:
+            lot = set(chance.sample(range(stores), min(stores, chance.choice((wish, wish, max(1, wish - 1))))))
+            before.append(tuple(sorted(lot | ({emptied} if chance.random() < 0.5 else set()))))
+        rooms = [max(0, load_of(store, before) + chance.choice((-1, 0, 0, 0, 1))) for store in range(stores)]
+        rooms[emptied] = chance.choice((0, 1))
+        rooms[roomy] += 2
+        yield Cluster(racks, rooms, some_rates(chance, stores, (1, 1, 1, 2))), tuple(wishes), tuple(before)

@@ -14,11 +14,15 @@ from movedwhole.clusters import Cluster
 from movedwhole.errors import MoveError
 from movedwhole.evenplans import any_plan, even_plan
 from movedwhole.halves import halved
+from movedwhole.intakes import gate_paper, gate_shown, gentle_placing, intake, least_intake
+from movedwhole.journals import first_wrong_line, in_force, stands_by
+from movedwhole.journaltexts import read_journal, write_journal
 from movedwhole.moves import busiest, first_wrong_move, loads, pairs_of
 from movedwhole.placings import first_breach, is_placing, is_wishes, new_copies
 from movedwhole.plans import first_excess, plan_length
 from movedwhole.prices import price_paper, shown_by
 from movedwhole.rooming import lacks_room, lot_lacking, some_placing
+from movedwhole.runs import Run, resumed
 from movedwhole.sources import busy_lot, chosen_moves, least_busiest, lot_value_of
 from movedwhole.tables import table_plan
 from movedwhole.tries import fewest_rounds, inner_bound
@@ -41,11 +45,22 @@ FUNCTIONS = {
     "tables": {"table_plan": ["leaving", "entering", "pairs"]},
     "evenplans": {"even_plan": ["rates", "pairs"], "any_plan": ["rates", "pairs"]},
     "tries": {"fewest_rounds": ["rates", "pairs"], "inner_bound": ["rates", "pairs", "lot"]},
+    "journals": {"first_wrong_line": ["cluster", "journal"], "stands_by": ["cluster", "journal"],
+                 "in_force": ["cluster", "journal"]},
+    "runs": {"resumed": ["cluster", "wishes", "journal"]},
+    "journaltexts": {"write_journal": ["journal"], "read_journal": ["cluster", "text"]},
+    "intakes": {"intake": ["rates", "before", "after"], "least_intake": ["cluster", "wishes", "before"],
+                "gentle_placing": ["cluster", "wishes", "before"],
+                "gate_shown": ["cluster", "wishes", "before", "most", "paper"],
+                "gate_paper": ["cluster", "wishes", "before", "most"]},
 }
 METHODS = {
     "clusters": {"Cluster": {"__init__": ["racks", "rooms", "rates"], "__eq__": ["other"],
                              "with_store": ["rack", "room", "rate"], "with_room": ["store", "room"],
                              "with_rack": ["store", "rack"], "with_rate": ["store", "rate"]}},
+    "runs": {"Run": {"__init__": ["cluster", "wishes", "before"], "journal": [], "disk": [], "left": [],
+                     "is_awake": [], "go": ["outcomes", "steps"], "wake": [], "change": ["cluster", "wishes"],
+                     "rounds": []}},
 }
 
 
@@ -67,6 +82,9 @@ class InterfaceTest(unittest.TestCase):
                 for method, parameters in methods.items():
                     function = vars(getattr(module, word))[method]
                     self.assertEqual(list(inspect.signature(function).parameters), ["self"] + parameters)
+                    defaults = [told.default for told in inspect.signature(function).parameters.values()]
+                    self.assertEqual([told for told in defaults if told is not inspect.Parameter.empty],
+                                     [None] * (method == "go"))
 
 
 class ReadmeTest(unittest.TestCase):
@@ -96,8 +114,26 @@ def answers(cluster, wishes, before, paper):
         (lot_lacking, (cluster, wishes)), (some_placing, (cluster, wishes)),
         (lacks_room, (cluster, wishes, paper)), (fewest_placing, (cluster, wishes, before)),
         (fewest_new, (cluster, wishes, before)), (shown_by, (cluster, wishes, before, paper)),
-        (price_paper, (cluster, wishes, before)),
+        (price_paper, (cluster, wishes, before)), (least_intake, (cluster, wishes, before)),
+        (gentle_placing, (cluster, wishes, before)), (gate_shown, (cluster, wishes, before, 1, paper)),
+        (gate_paper, (cluster, wishes, before, 1)), (gate_paper, (cluster, wishes, before, paper)),
+        (run_answers, (cluster, wishes, before, paper)), (resumed, (cluster, wishes, paper)),
+        (first_wrong_line, (cluster, paper)), (stands_by, (cluster, paper)), (in_force, (cluster, paper)),
     ))
+
+
+def run_answers(cluster, wishes, before, value):
+    """What a run answers, with the value as outcomes, as steps and as wishes."""
+    run = Run(cluster, wishes, before)
+    refused = all_answers(((run.go, (value,)), (run.go, ((), value)), (run.change, (cluster, value)), (run.wake, ())))
+    found = [answer and answer[0].__name__ for answer in refused]
+    while run.left():
+        found.append(run.go(("done",) * len(run.left()[0]), 5))
+        if not run.is_awake():
+            run.wake()
+        found += [run.journal(), run.disk(), run.left(), run.rounds()]
+    text = write_journal(run.journal())
+    return tuple(found) + (text, read_journal(cluster, text), resumed(cluster, wishes, run.journal()).disk())
 
 
 def change_answers(cluster, before, after, value):
@@ -105,7 +141,7 @@ def change_answers(cluster, before, after, value):
     change = (cluster, before, after)
     return all_answers((
         (first_wrong_move, (before, after, value)), (least_busiest, change), (chosen_moves, change),
-        (lot_value_of, change + (value,)), (busy_lot, change),
+        (lot_value_of, change + (value,)), (busy_lot, change), (intake, (cluster.rates, before, after)),
     ))
 
 
