@@ -9,14 +9,14 @@ class Ledger:
     """What the lines of a journal tell, taken one by one: where the pieces stand, and the placing in force."""
 
     def __init__(self):
-        # Ahead of the first line there are neither.
+        # Ahead of the first line there are neither; behind it, up to a change,
+        # the pieces stand just where it says: none is to be made or dropped.
         self.standing = None
         self.force = None
-        self.changed = False
 
     def fits(self, cluster, line):
         """Whether the value is a line, with placings at the cluster's stores, that is right behind those taken."""
-        if not isinstance(line, tuple) or not line or not isinstance(line[0], str):
+        if not isinstance(line, tuple) or not line:
             return False
         if self.standing is None:
             return is_first(cluster, line)
@@ -32,15 +32,15 @@ class Ledger:
         return line[0] == "change" and len(line) == 2 and is_placing(cluster, line[1], len(self.standing))
 
     def is_wanted(self, piece, store):
-        """Whether the last change has a copy of the piece at the store that is not there yet."""
-        if not self.changed or not is_within(piece, (0, len(self.standing) - 1)):
+        """Whether the placing in force has a copy of the piece at the store that is not there yet."""
+        if not is_within(piece, (0, len(self.standing) - 1)):
             return False
         return store in self.force[piece] and store not in self.standing[piece]
 
     def is_due(self, piece):
-        """Whether the piece stands at all stores that the last change has for it, and at a further one."""
+        """Whether the piece stands at all stores that the placing in force has for it, and at a further one."""
         lot, wanted = self.standing[piece], self.force[piece]
-        return self.changed and len(lot) > len(wanted) and all([store in lot for store in wanted])
+        return len(lot) > len(wanted) and all([store in lot for store in wanted])
 
     def due(self):
         """The least piece of which a drop is due; None if there is none."""
@@ -59,7 +59,6 @@ class Ledger:
         else:
             if word == "first":
                 self.standing = list(told)
-            self.changed = word == "change"
             self.force = told
 
 

@@ -24,7 +24,7 @@ def read_journal(cluster, text):
     at = 0
     for told in text.split("\n"):
         line = read_line(cluster, told)
-        if line is None or not ledger.fits(cluster, line):
+        if not ledger.fits(cluster, line):
             raise InvalidText(text, at)
         ledger.take(line)
         journal.append(line)

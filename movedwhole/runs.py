@@ -177,9 +177,9 @@ class Run:
         """
         kept = []
         for moves in self.planned:
-            open_moves = tuple([move for move in moves if move[2] not in self.ledger.standing[move[0]]])
-            if open_moves:
-                kept.append(open_moves)
+            unmade = tuple([move for move in moves if move[2] not in self.ledger.standing[move[0]]])
+            if unmade:
+                kept.append(unmade)
         fresh = self.fresh_plan()
         self.planned = fresh if len(fresh) < len(kept) else tuple(kept)
 
@@ -188,7 +188,7 @@ def is_outcomes(value, many):
     """Whether the value is a tuple with so many outcomes."""
     if not isinstance(value, tuple) or len(value) != many:
         return False
-    return all([isinstance(outcome, str) and outcome in OUTCOMES for outcome in value])
+    return all([outcome in OUTCOMES for outcome in value])
 
 
 def resumed(cluster, wishes, journal):

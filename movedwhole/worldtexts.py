@@ -26,10 +26,9 @@ def read_world(text):
             raise InvalidText(text, at)
         rows.append(row)
         at += len(line) + 1
-    stores, pieces = rows[0]
-    if len(rows) <= stores + pieces:
+    if not is_whole(rows):
         raise InvalidText(text, len(text))
-    return world_of(rows[1:stores + 1], rows[stores + 1:])
+    return world_told(rows)
 
 
 def read_row(line, rows):
@@ -63,8 +62,16 @@ def read_piece(line, stores):
     return None if wish is None or lot is None else (wish, lot)
 
 
-def world_of(stores, pieces):
-    """The triple of the rows (rack, room, rate) of stores and (wish, lot) of pieces."""
+def is_whole(rows):
+    """Whether there are as many rows as the first one tells."""
+    stores, pieces = rows[0]
+    return len(rows) > stores + pieces
+
+
+def world_told(rows):
+    """The triple that all rows, those of stores (rack, room, rate) and of pieces (wish, lot) behind the first, tell."""
+    stores = rows[1:rows[0][0] + 1]
+    pieces = rows[len(stores) + 1:]
     cluster = Cluster(
         [rack for rack, room, rate in stores],
         [room for rack, room, rate in stores],

@@ -2,12 +2,17 @@
 
 import itertools
 import random
+import re
 import unittest
 
 from movedwhole.clusters import Cluster
 
 THREE = Cluster((0, 1, 2), (9, 9, 9), (2, 2, 2))
 EIGHT = Cluster((0, 1, 2, 3, 0, 1, 2, 3), (15,) * 8, (2, 3) * 4)
+TOLD_NUMBER = "(?:[0-9]|[1-9][0-9])"
+WORLD_HEAD = re.compile("cluster ([1-8]) ([0-9]|[123][0-9]|40)")
+WORLD_STORE = re.compile(f"store {TOLD_NUMBER} {TOLD_NUMBER} [1-8]")
+WORLD_PIECE = re.compile("piece [123] ([0-7](?:,[0-7])*)")
 
 
 def deep(value, levels):
@@ -233,7 +238,8 @@ def random_journal(chance, cluster, pieces, lines):
         _, stands, force = journal_of(cluster, tuple(journal))
         numbers = [("made", piece, store) for piece in range(pieces) for store in force[piece]]
         followers = [("change", tuple(chance.choice(lots) for piece in range(pieces)))]
-        followers += [chance.choice(numbers) for _ in range(3) if numbers] + [("dropped", piece) for piece in range(pieces)]
+        followers += [chance.choice(numbers) for _ in range(3) if numbers]
+        followers += [("dropped", piece) for piece in range(pieces)]
         right = [line for line in followers if journal_of(cluster, tuple(journal) + (line,))[0] is None]
         journal.append(chance.choice(right[:1] * (chance.random() < 0.2) or right))
     return tuple(journal)
@@ -268,3 +274,91 @@ def tight_worlds(seed, many):
         rooms[emptied] = chance.choice((0, 1))
         rooms[roomy] += 2
         yield Cluster(racks, rooms, some_rates(chance, stores, (1, 1, 1, 2))), tuple(wishes), tuple(before)
+
+
+def goals_of(world):
+    """All placings that keep the rules of a small world and are reached by the fewest new copies."""
+    cluster, wishes, placing = world
+    told = [(count_new(placing, good), good) for good in all_good_placings(cluster, wishes)]
+    return [good for new, good in told if new == min(told)[0]]
+
+
+def deed_fits(world, deed):
+    """By the words: whether a plain tuple of a word, integers and a lot is a deed that fits in the world."""
+    cluster, wishes, _ = world
+    stores, pieces, (word, *told) = cluster.store_count, len(wishes), deed
+    if word == "piece":
+        return len(told) == 2 and pieces < 40 and told[0] in (1, 2, 3) and told[1] in all_lots(stores)[1:]
+    allowed = {
+        "store": (range(100), range(100), range(1, 9)), "room": (range(stores), range(100)), "settle": (),
+        "rate": (range(stores), range(1, 9)), "wish": (range(pieces), range(1, 4)),
+    }.get(word)
+    if allowed is None or len(allowed) != len(told) or word == "store" and stores == 8:
+        return False
+    return all(number in numbers for number, numbers in zip(told, allowed))
+
+
+def deed_done(world, goal, deed):
+    """The world behind a deed that fits, by the words."""
+    cluster, wishes, placing = world
+    racks, rooms, rates, wishes = [list(part) for part in (cluster.racks, cluster.rooms, cluster.rates, wishes)]
+    word, *told = deed
+    if word == "store":
+        for part, number in zip((racks, rooms, rates), told):
+            part.append(number)
+    elif word == "piece":
+        wishes.append(told[0])
+        placing += (told[1],)
+    elif word == "settle":
+        placing = goal
+    else:
+        {"room": rooms, "rack": racks, "rate": rates, "wish": wishes}[word][told[0]] = told[1]
+    return Cluster(racks, rooms, rates), tuple(wishes), placing
+
+
+def some_deed(chance, world):
+    """A deed by chance; most of them fit in the world."""
+    cluster, wishes, _ = world
+    stores, pieces = cluster.store_count, len(wishes)
+    lots = all_lots(min(stores, 4))[1:]
+    return chance.choice((
+        ("store", chance.randrange(4), chance.randrange(4), chance.choice((1, 2, 8))),
+        ("room", chance.randrange(stores + 1), chance.randrange(pieces + 2)),
+        ("rate", chance.randrange(stores), chance.choice((1, 2, 3, 9))),
+        ("wish", chance.randrange(pieces + 1), chance.choice((1, 1, 2, 2, 3, 4))),
+        ("piece", chance.choice((1, 1, 2, 3)), chance.choice(lots)),
+        ("settle",), ("settle",),
+    ))
+
+
+def is_world_line(lines, place):
+    """Whether the line may stand at its place in the text of a world, if all lines ahead of it may."""
+    head = WORLD_HEAD.fullmatch(lines[0])
+    if place == 0 or head is None:
+        return head is not None
+    stores, pieces = int(head[1]), int(head[2])
+    if place <= stores:
+        return WORLD_STORE.fullmatch(lines[place]) is not None
+    piece = WORLD_PIECE.fullmatch(lines[place])
+    if place > stores + pieces or piece is None:
+        return False
+    lot = [int(store) for store in piece[1].split(",")]
+    return lot == sorted(set(lot)) and lot[-1] < stores
+
+
+def spoiled_texts(text, signs):
+    """Texts that differ from the text in a sign or two, or in the order and number of their lines."""
+    texts, lines = {text}, text.split("\n")
+    for at in range(len(text) + 1):
+        head, tail = text[:at], text[at:]
+        texts.update([head, tail, head + tail[1:], head + tail[:1] + tail, head + tail[1:2] + tail[:1] + tail[2:]])
+        for sign in signs:
+            texts.update([head + sign + tail, head + sign + tail[1:], head + sign + tail[2:]])
+    for one in range(len(lines)):
+        texts.add("\n".join(lines[:one] + lines[one + 1:]))
+        for other in range(len(lines)):
+            exchanged = list(lines)
+            exchanged[one], exchanged[other] = lines[other], lines[one]
+            texts.add("\n".join(exchanged))
+            texts.add("\n".join(lines[:other] + [lines[one]] + lines[other:]))
+    return sorted(texts)

@@ -9,11 +9,14 @@ import unittest
 
 from helper import (MovedTest, NO_INTEGERS, NO_TUPLES, THREE, large_changes, large_worlds, small_changes, small_worlds,
                     wrong_pairs)
+from movedwhole.boards import Board
 from movedwhole.cheapest import fewest_new, fewest_placing
 from movedwhole.clusters import Cluster
+from movedwhole.desk import Desk, replayed_desk
 from movedwhole.errors import MoveError
 from movedwhole.evenplans import any_plan, even_plan
 from movedwhole.halves import halved
+from movedwhole.histories import board_paper, paper_end, paper_holds
 from movedwhole.intakes import gate_paper, gate_shown, gentle_placing, intake, least_intake
 from movedwhole.journals import first_wrong_line, in_force, stands_by
 from movedwhole.journaltexts import read_journal, write_journal
@@ -24,6 +27,7 @@ from movedwhole.prices import price_paper, shown_by
 from movedwhole.rooming import lacks_room, lot_lacking, some_placing
 from movedwhole.runs import Run, resumed
 from movedwhole.sources import busy_lot, chosen_moves, least_busiest, lot_value_of
+from movedwhole.standstills import least_without, moves_without, value_without, waiting
 from movedwhole.tables import table_plan
 from movedwhole.tries import fewest_rounds, inner_bound
 from movedwhole.worldtexts import read_world, write_world
@@ -53,6 +57,12 @@ FUNCTIONS = {
                 "gentle_placing": ["cluster", "wishes", "before"],
                 "gate_shown": ["cluster", "wishes", "before", "most", "paper"],
                 "gate_paper": ["cluster", "wishes", "before", "most"]},
+    "standstills": {"waiting": ["cluster", "before", "after", "still"],
+                    "moves_without": ["cluster", "before", "after", "still"],
+                    "least_without": ["cluster", "before", "after", "still"],
+                    "value_without": ["cluster", "before", "after", "still", "lot"]},
+    "histories": {"board_paper": ["board"], "paper_holds": ["text"], "paper_end": ["text"]},
+    "desk": {"replayed_desk": ["cluster", "wishes", "placing", "lines"]},
 }
 METHODS = {
     "clusters": {"Cluster": {"__init__": ["racks", "rooms", "rates"], "__eq__": ["other"],
@@ -61,6 +71,9 @@ METHODS = {
     "runs": {"Run": {"__init__": ["cluster", "wishes", "before"], "journal": [], "disk": [], "left": [],
                      "is_awake": [], "go": ["outcomes", "steps"], "wake": [], "change": ["cluster", "wishes"],
                      "rounds": []}},
+    "boards": {"Board": {"__init__": ["cluster", "wishes", "placing"], "world": [], "goal": [], "deed": ["deed"],
+                         "undo": [], "redo": [], "done": []}},
+    "desk": {"Desk": {"__init__": ["cluster", "wishes", "placing"], "run": ["line"]}},
 }
 
 
@@ -119,6 +132,7 @@ def answers(cluster, wishes, before, paper):
         (gate_paper, (cluster, wishes, before, 1)), (gate_paper, (cluster, wishes, before, paper)),
         (run_answers, (cluster, wishes, before, paper)), (resumed, (cluster, wishes, paper)),
         (first_wrong_line, (cluster, paper)), (stands_by, (cluster, paper)), (in_force, (cluster, paper)),
+        (board_answers, (cluster, wishes, before, paper)), (desk_answers, (cluster, wishes, before)),
     ))
 
 
@@ -136,12 +150,37 @@ def run_answers(cluster, wishes, before, value):
     return tuple(found) + (text, read_journal(cluster, text), resumed(cluster, wishes, run.journal()).disk())
 
 
+def board_answers(cluster, wishes, before, value):
+    """What a board answers, with the value as a deed, and what its paper tells."""
+    board = Board(cluster, wishes, before)
+    deeds = (("room", 0, 0), ("wish", 0, 1), ("piece", 1, (0,)), ("settle",), value, ("store", 7, 9, 2))
+    found = []
+    for call, arguments in [(board.deed, (deed,)) for deed in deeds] + [(board.undo, ())] * 3 + [(board.redo, ())] * 2:
+        answer = all_answers(((call, arguments),))[0]
+        found += [answer[0] if isinstance(answer[0], str) else answer[0].__name__, board.goal(), board.done()]
+    text = board_paper(board)
+    return tuple(found) + (text, int(paper_holds(text)), paper_end(text)[1:], board.world()[1:])
+
+
+def desk_answers(cluster, wishes, before):
+    """What a desk answers to lines of all kinds."""
+    desk = Desk(cluster, wishes, before)
+    found = []
+    for line in ("breach", "lacking", "new", "rounds", "lot", "where 0", "room 0 0", "rack 0 7", "settle", "piece 1 0",
+                 "undo", "redo", "x", "wish 0", "rate 0 9"):
+        answer = all_answers(((desk.run, (line,)),))[0]
+        found += [answer if isinstance(answer, str) else answer[0].__name__, desk.wishes, desk.placing, desk.lines]
+    return tuple(found) + replayed_desk(cluster, wishes, before, desk.lines).lines
+
+
 def change_answers(cluster, before, after, value):
     """What all functions of a change answer, with the value as moves and as a lot."""
     change = (cluster, before, after)
     return all_answers((
         (first_wrong_move, (before, after, value)), (least_busiest, change), (chosen_moves, change),
         (lot_value_of, change + (value,)), (busy_lot, change), (intake, (cluster.rates, before, after)),
+        (waiting, change + ((0,),)), (moves_without, change + ((0,),)), (least_without, change + ((0,),)),
+        (value_without, change + ((0,), value)), (value_without, change + (value, (1,))), (waiting, change + (value,)),
     ))
 
 

@@ -204,7 +204,8 @@ class GateTest(MovedTest):
                 most = chance.randrange(4)
                 shown = gate_shown(cluster, wishes, before, most, paper)
                 self.assertTrue(self.same(shown, shown_of(cluster, wishes, before, most, paper)))
-                self.assertEqual(gate_shown(cluster=cluster, wishes=wishes, before=before, most=most, paper=paper), shown)
+                named = {"cluster": cluster, "wishes": wishes, "before": before, "most": most, "paper": paper}
+                self.assertEqual(gate_shown(**named), shown)
                 self.assertTrue(all(shown <= new for new, needed in told if needed <= most))
 
     def some_paper(self, chance, pieces, stores):

@@ -385,8 +385,8 @@ class LedTest(RunTest):
         self.assertEqual({line[0] for line in run.journal()[many + 1:]} - {"dropped"}, set())
         # Only what a dropped line puts out is wiped: what the journal did not tell ahead of it still lies there.
         behind = journal_of(other, run.journal())[1]
-        self.assertEqual([set(lot) for lot in run.disk()],
-                         [set(told) | (set(lay) - set(stood)) for told, lay, stood in zip(behind, elder.disk(), stands)])
+        untold = [set(lot) - set(stood) for lot, stood in zip(elder.disk(), stands)]
+        self.assertEqual([set(lot) for lot in run.disk()], [set(told) | lay for told, lay in zip(behind, untold)])
         self.assert_begun(other, run)
         return other
 
